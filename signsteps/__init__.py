@@ -1,0 +1,1 @@
+"""Signsteps: unit steps whose products turn sign."""

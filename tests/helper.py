@@ -1,0 +1,91 @@
+"""Slow, plain reckoning by the words of the document, and inputs for the tests."""
+
+import itertools
+import random
+from fractions import Fraction
+
+from signsteps.kinds import Kind
+
+ALL_SQUARES = [list(row) for count in range(6) for row in itertools.product((1, -1, 0), repeat=count)]
+SOME_SQUARES = [[], [1], [-1], [0], [1, -1], [0, 1], [-1, 0], [1, -1, 0], [-1, -1, -1],
+                [0, 0, 1, -1], [1, 1, 1, 1], [-1, 0, 1, 0, -1], [1, -1, 1, -1, 1], [0, 0, 0, 0, 0]]
+ONE = (((), (1, 1)),)
+
+
+def all_products(count):
+    return sorted(steps for many in range(count + 1) for steps in itertools.combinations(range(count), many))
+
+
+def slow_order(squares, steps):
+    """Exchange or put out the first two neighbours that are not rising, until there are none."""
+    steps, number = list(steps), 1
+    at = 0
+    while at + 1 < len(steps):
+        if steps[at] < steps[at + 1]:
+            at += 1
+            continue
+        if steps[at] == steps[at + 1]:
+            number *= squares[steps[at]]
+            del steps[at:at + 2]
+        else:
+            steps[at], steps[at + 1] = steps[at + 1], steps[at]
+            number = -number
+        at = 0
+    return number, tuple(steps)
+
+
+def slow_sum(squares, rows):
+    found = {}
+    for steps, (top, bottom) in rows:
+        number, product = slow_order(squares, steps)
+        found[product] = found.get(product, 0) + number * Fraction(top, bottom)
+    return tuple((product, (found[product].numerator, found[product].denominator))
+                 for product in sorted(found) if found[product] != 0)
+
+
+def slow_times(squares, one, other):
+    rows = []
+    for first, (top, bottom) in one:
+        for second, (other_top, other_bottom) in other:
+            rows.append((first + second, (top * other_top, bottom * other_bottom)))
+    return slow_sum(squares, rows)
+
+
+def some_fraction(chance, figures):
+    """A fraction, not nought, with at most so many figures above and below."""
+    top = chance.choice((1, -1)) * chance.randrange(1, 10 ** chance.randint(1, figures))
+    found = Fraction(top, chance.randrange(1, 10 ** chance.randint(1, figures)))
+    return (found.numerator, found.denominator)
+
+
+def some_sum(chance, count, figures, share=0.6):
+    """A sum in which each product stands with this share."""
+    return tuple((product, some_fraction(chance, figures))
+                 for product in all_products(count) if chance.random() < share)
+
+
+def full_sum(chance, count, figures):
+    return some_sum(chance, count, figures, share=2)
+
+
+def some_rows(chance, count, many, longest, figures):
+    """Rows for sum_of, some with a fraction nought."""
+    rows = []
+    for _ in range(many):
+        steps = tuple(chance.randrange(count) for _ in range(chance.randint(0, longest))) if count else ()
+        rows.append((steps, some_fraction(chance, figures) if chance.random() < 0.9 else (0, 1)))
+    return rows
+
+
+def step_sum(step):
+    return (((step,), (1, 1)),)
+
+
+def kinds(rows=None):
+    """Each list of squares with its kind."""
+    return [(squares, Kind(squares)) for squares in (SOME_SQUARES if rows is None else rows)]
+
+
+def chance_of(word):
+    """The same numbers for the same word, at each run."""
+    return random.Random(word)
