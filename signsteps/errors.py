@@ -1,6 +1,6 @@
 """The refusals of the program: one class for each, all of them under StepError.
 
-No message writes out a number that was handed in: such numbers may have any many figures.
+No message writes out a number that was handed in: they may have any number of figures.
 """
 
 
