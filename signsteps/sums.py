@@ -1,8 +1,9 @@
 """Sums: tuples of terms (product, fraction), products rising, no fraction nought."""
 
 from signsteps.errors import NoStep, NoSum
-from signsteps.fractions import added, bottom_parts, is_fraction, lowest, multiplied, product_of
+from signsteps.fractions import added, are_lowest, is_pair, lowest, multiplied
 from signsteps.kinds import is_step
+from signsteps.wholes import any_two, in_order, times_where
 
 
 def is_rising(things):
@@ -18,18 +19,20 @@ def is_product(kind, steps):
 
 
 def is_term(kind, term):
-    """Whether this may stand in a sum of the kind."""
+    """Whether this may stand in a sum of the kind, if its fraction is in lowest terms."""
     if not isinstance(term, tuple) or len(term) != 2:
         return False
     product, fraction = term
-    return is_product(kind, product) and is_fraction(fraction) and fraction[0] != 0
+    return is_product(kind, product) and is_pair(fraction) and fraction[0] != 0
 
 
 def is_sum(kind, terms):
     """Whether this is a sum of the kind."""
     if not isinstance(terms, tuple) or not all([is_term(kind, term) for term in terms]):
         return False
-    return is_rising([product for product, fraction in terms])
+    if not is_rising([product for product, fraction in terms]):
+        return False
+    return are_lowest([fraction for product, fraction in terms])
 
 
 def check_sums(kind, sums):
@@ -44,23 +47,6 @@ def check_steps(kind, steps):
     for step in steps:
         if not is_step(kind, step):
             raise NoStep(step)
-
-
-def in_order(kind, steps):
-    """The number (1, -1 or 0) and the product to which steps in any order come."""
-    number = 1
-    product = []
-    for step in steps:
-        above = len([behind for behind in product if behind > step])
-        if above & 1:
-            number = -number
-        place = len(product) - above
-        if step in product:
-            number *= kind.squares[step]
-            del product[place - 1]
-        else:
-            product.insert(place, step)
-    return number, tuple(product)
 
 
 def put_to(found, product, fraction):
@@ -104,24 +90,7 @@ def scaled(one, fraction):
     return tuple([(product, multiplied(number, fraction)) for product, number in one])
 
 
-def over_one_bottom(one):
-    """The terms of a sum as tuples (product, top) over one bottom, and the parts of that bottom."""
-    parts = bottom_parts([fraction for product, fraction in one])
-    bottom = product_of(parts)
-    return [(product, fraction[0] * (bottom // fraction[1])) for product, fraction in one], parts
-
-
 def times(kind, one, other):
     """The product of two sums of the kind."""
     check_sums(kind, (one, other))
-    # Tops are put together as whole numbers, and cut down once at the end: a common divisor
-    # for each pair of terms would take far longer where fractions have many figures.
-    first_tops, first_parts = over_one_bottom(one)
-    second_tops, second_parts = over_one_bottom(other)
-    found = {}
-    for first, first_top in first_tops:
-        for second, second_top in second_tops:
-            number, product = in_order(kind, first + second)
-            found[product] = found.get(product, 0) + number * first_top * second_top
-    parts = first_parts + second_parts
-    return sum_from_found({product: lowest(found[product], parts) for product in found})
+    return times_where(kind, one, other, any_two)

@@ -43,12 +43,60 @@ def slow_sum(squares, rows):
                  for product in sorted(found) if found[product] != 0)
 
 
-def slow_times(squares, one, other):
+def slow_times(squares, one, other, fits=lambda first, second: True):
     rows = []
     for first, (top, bottom) in one:
         for second, (other_top, other_bottom) in other:
-            rows.append((first + second, (top * other_top, bottom * other_bottom)))
+            if fits(set(first), set(second)):
+                rows.append((first + second, (top * other_top, bottom * other_bottom)))
     return slow_sum(squares, rows)
+
+
+def slow_plus(one, other):
+    """The terms of two sums put together; no two steps meet, so squares do not count."""
+    return slow_sum((), [*one, *other])
+
+
+def pair(value):
+    """A fraction of the program, of one of Python's or of a whole number."""
+    return (Fraction(value).numerator, Fraction(value).denominator)
+
+
+def values_of(count, vector):
+    """A vector as the list of Python's fractions of the steps."""
+    found = {product: Fraction(*fraction) for product, fraction in vector}
+    return [found.get((step,), Fraction(0)) for step in range(count)]
+
+
+def vector_from(values):
+    return tuple(((step,), pair(value)) for step, value in enumerate(values) if value != 0)
+
+
+def slow_dot(squares, one, other):
+    return sum(square * first * second for square, first, second in zip(squares, one, other))
+
+
+def slow_mirrored(squares, mirror, values):
+    """x less v taken by twice dot(x, v) divided by the measure of v, for lists of values."""
+    by = 2 * slow_dot(squares, values, mirror) / slow_dot(squares, mirror, mirror)
+    return [value - by * less for value, less in zip(values, mirror)]
+
+
+def slow_led(rows, values):
+    """Where a table of values leads a list of values."""
+    return [sum(value * row[place] for value, row in zip(values, rows)) for place in range(len(rows))]
+
+
+def unit_values(count, step):
+    return [Fraction(int(place == step)) for place in range(count)]
+
+
+def table_from(rows):
+    return [[pair(value) for value in row] for row in rows]
+
+
+def table_values(table):
+    return [[Fraction(*fraction) for fraction in row] for row in table]
 
 
 def some_fraction(chance, figures):
@@ -66,6 +114,30 @@ def some_sum(chance, count, figures, share=0.6):
 
 def full_sum(chance, count, figures):
     return some_sum(chance, count, figures, share=2)
+
+
+def some_vector(chance, count, figures, share=0.8):
+    return tuple(((step,), some_fraction(chance, figures)) for step in range(count) if chance.random() < share)
+
+
+def some_mirror(chance, squares, figures):
+    """A vector whose measure is not nought, of a kind that has such."""
+    while True:
+        vector = some_vector(chance, len(squares), figures)
+        values = values_of(len(squares), vector)
+        if slow_dot(squares, values, values) != 0:
+            return vector
+
+
+def some_table(chance, count, figures):
+    return [[some_fraction(chance, figures) if chance.random() < 0.7 else (0, 1) for _ in range(count)]
+            for _ in range(count)]
+
+
+def no_sums(count):
+    """Tuples that are no sums of a kind with so many steps."""
+    return [(((count,), (1, 1)),), (((-1,), (1, 1)),), (((), (2, 4)),), (((), (0, 1)),), (((), (1, -1)),),
+            (((), (1, 1)), ((), (1, 1))), (((), (1, 0)),)]
 
 
 def some_rows(chance, count, many, longest, figures):

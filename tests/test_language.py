@@ -2,12 +2,12 @@
 
 import ast
 import builtins
+import importlib
 import inspect
 import pathlib
 import re
 import unittest
 
-from signsteps import sums
 from signsteps.kinds import Kind
 
 PACKAGE = pathlib.Path(__file__).resolve().parent.parent / "signsteps"
@@ -137,12 +137,27 @@ class LanguageTest(unittest.TestCase):
                     self.assertIn(node.func.attr, METHODS | own, path.name)
 
 
+INTERFACE = {
+    "sums": {"sum_of": "kind terms", "plus": "one other", "minus": "one other", "scaled": "one fraction",
+             "times": "kind one other", "is_sum": "kind terms"},
+    "turning": {"grades": "one", "part": "one grade", "back": "one", "flipped": "one"},
+    "meeting": {"outer": "kind one other", "inner": "kind one other", "number_of": "one", "dot": "kind one other"},
+    "partners": {"partner": "kind one", "quotient": "kind one other"},
+    "mirrors": {"mirrored": "kind vector other", "led": "kind table vector", "mirror_table": "kind vector",
+                "put_behind": "kind one other", "versor_table": "kind versor", "keeps_measure": "kind table",
+                "versor_of": "kind vectors", "alike": "kind one other"},
+}
+
+
 class InterfaceTest(unittest.TestCase):
     def test_names_and_arguments(self):
-        awaited = {"sum_of": ["kind", "terms"], "plus": ["one", "other"], "minus": ["one", "other"],
-                   "scaled": ["one", "fraction"], "times": ["kind", "one", "other"], "is_sum": ["kind", "terms"]}
-        for name, arguments in awaited.items():
-            self.assertEqual(list(inspect.signature(getattr(sums, name)).parameters), arguments)
+        for module, functions in INTERFACE.items():
+            found = importlib.import_module(f"signsteps.{module}")
+            for name, arguments in functions.items():
+                parameters = inspect.signature(getattr(found, name)).parameters
+                self.assertEqual(" ".join(parameters), arguments, (module, name))
+
+    def test_kind(self):
         self.assertEqual(list(inspect.signature(Kind).parameters), ["squares"])
         self.assertEqual(set(vars(Kind([1, 0]))), {"count", "squares"})
 
