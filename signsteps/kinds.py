@@ -1,6 +1,6 @@
 """Kinds: a few steps, each with a square."""
 
-from signsteps.errors import NoCount, NoSquare
+from signsteps.errors import NoCount, NoFull, NoSquare
 from signsteps.fractions import is_whole
 
 MOST_STEPS = 5
@@ -27,3 +27,10 @@ class Kind:
 def is_step(kind, number):
     """Whether this is a step of the kind."""
     return is_whole(number) and 0 <= number < kind.count
+
+
+def check_full(kind):
+    """Refuse a kind with a square that is nought."""
+    for place, square in enumerate(kind.squares):
+        if square == 0:
+            raise NoFull(place)

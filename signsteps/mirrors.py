@@ -72,9 +72,17 @@ def product_backwards(kind, sums):
     return sum_over(product, parts)
 
 
-def carried(kind, versor, other, step):
-    """A whole sum times a step times another whole sum."""
-    return whole_times(kind, whole_times(kind, versor, {(step,): 1}), other)
+def carried_steps(kind, whole, other):
+    """For each step the product of a whole sum, the step and another whole sum."""
+    return [whole_times(kind, whole_times(kind, whole, {(step,): 1}), other) for step in range(kind.count)]
+
+
+def carried_table(whole, carried, number):
+    """The table of what carried_steps tells of a product of mirrors and its partner taken by a number."""
+    is_odd = any([len(product) & 1 == 1 for product in whole])
+    sign = -1 if is_odd != (number < 0) else 1
+    rows = [[sign * found.get((place,), 0) for place in range(len(carried))] for found in carried]
+    return table_over(rows, [abs(number)])
 
 
 def versor_table(kind, versor):
@@ -84,13 +92,7 @@ def versor_table(kind, versor):
     other, number = whole_partner(kind, whole)
     if number == 0:
         raise NoPartner(sum_over(other, []))
-    is_odd = any([len(product) & 1 == 1 for product in whole])
-    sign = -1 if is_odd != (number < 0) else 1
-    rows = []
-    for step in range(kind.count):
-        found = carried(kind, whole, other, step)
-        rows.append([sign * found.get((place,), 0) for place in range(kind.count)])
-    return table_over(rows, [abs(number)])
+    return carried_table(whole, carried_steps(kind, whole, other), number)
 
 
 def alike(kind, one, other):

@@ -5,10 +5,12 @@ import random
 from fractions import Fraction
 
 from signsteps.kinds import Kind
+from signsteps.mirrors import mirror_table, put_behind
 
 ALL_SQUARES = [list(row) for count in range(6) for row in itertools.product((1, -1, 0), repeat=count)]
 SOME_SQUARES = [[], [1], [-1], [0], [1, -1], [0, 1], [-1, 0], [1, -1, 0], [-1, -1, -1],
                 [0, 0, 1, -1], [1, 1, 1, 1], [-1, 0, 1, 0, -1], [1, -1, 1, -1, 1], [0, 0, 0, 0, 0]]
+FULL_SQUARES = [row for row in ALL_SQUARES if all(row)]
 ONE = (((), (1, 1)),)
 
 
@@ -97,6 +99,19 @@ def table_from(rows):
 
 def table_values(table):
     return [[Fraction(*fraction) for fraction in row] for row in table]
+
+
+def stay(count):
+    """The table that leads each step to itself."""
+    return table_from([unit_values(count, step) for step in range(count)])
+
+
+def table_of_mirrors(kind, vectors):
+    """Going by all mirrors, the first one first."""
+    table = stay(kind.count)
+    for vector in vectors:
+        table = put_behind(kind, table, mirror_table(kind, vector))
+    return table
 
 
 def some_fraction(chance, figures):

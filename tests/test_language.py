@@ -146,6 +146,11 @@ INTERFACE = {
     "mirrors": {"mirrored": "kind vector other", "led": "kind table vector", "mirror_table": "kind vector",
                 "put_behind": "kind one other", "versor_table": "kind versor", "keeps_measure": "kind table",
                 "versor_of": "kind vectors", "alike": "kind one other"},
+    "apart": {"taken_apart": "kind table", "mirrors_of": "kind one"},
+    "flats": {"row_at": "kind one product", "flat_parts": "kind one"},
+    "owns": {"products_of": "kind", "own_table": "kind one", "sum_at": "kind rows", "beside_all": "kind",
+             "halves": "kind", "folded": "kind one which"},
+    "evens": {"even_kind": "kind", "into_even": "kind one", "out_of_even": "kind one"},
 }
 
 

@@ -5,8 +5,8 @@ import time
 import unittest
 
 from helper import (ALL_SQUARES, ONE, chance_of, kinds, no_sums, slow_dot, slow_led, slow_mirrored, some_fraction,
-                    some_mirror, some_table, some_vector, step_sum, table_from, table_values, unit_values, values_of,
-                    vector_from)
+                    some_mirror, some_table, some_vector, stay, step_sum, table_from, table_of_mirrors, table_values,
+                    unit_values, values_of, vector_from)
 from signsteps.errors import NoMirror, NoSum, NoTable, NoVector
 from signsteps.kinds import Kind
 from signsteps.meeting import dot
@@ -16,11 +16,6 @@ from signsteps.sums import is_sum, scaled, times
 
 WITH_MIRRORS = [row for row in ALL_SQUARES if any(row)]
 NO_VECTORS = [ONE, (((0, 1), (1, 1)),), (((), (1, 1)), ((0,), (1, 1))), (((0,), (1, 1)), ((0, 1), (1, 1)))]
-
-
-def stay(count):
-    """The table that leads each step to itself."""
-    return table_from([unit_values(count, step) for step in range(count)])
 
 
 def spoilt_tables(count):
@@ -250,9 +245,7 @@ class KeepsMeasureTest(unittest.TestCase):
         squares = [1, -1, 1, 1, -1]
         kind = Kind(squares)
         begun = time.process_time()
-        table = stay(5)
-        for _ in range(10):
-            table = put_behind(kind, table, mirror_table(kind, some_mirror(chance, squares, 110)))
+        table = table_of_mirrors(kind, [some_mirror(chance, squares, 110) for _ in range(10)])
         self.assertIsNone(keeps_measure(kind, table))
         self.assertLess(time.process_time() - begun, 30)
 

@@ -3,23 +3,14 @@
 import time
 import unittest
 
-from helper import (ALL_SQUARES, ONE, chance_of, kinds, no_sums, slow_times, some_fraction, some_mirror, some_sum,
-                    step_sum, table_from, unit_values)
+from helper import (ALL_SQUARES, FULL_SQUARES, ONE, chance_of, kinds, no_sums, slow_times, some_fraction, some_mirror,
+                    some_sum, step_sum, table_of_mirrors)
 from signsteps.errors import NoMirror, NoSum, NoVector
 from signsteps.kinds import Kind
-from signsteps.mirrors import alike, mirror_table, put_behind, versor_of, versor_table
+from signsteps.mirrors import alike, versor_of, versor_table
 from signsteps.sums import is_sum, plus, scaled, times
 
 WITH_MIRRORS = [row for row in ALL_SQUARES if any(row)]
-FULL = [row for row in ALL_SQUARES if all(row)]
-
-
-def table_of_mirrors(kind, vectors):
-    """Going by all mirrors, the first one first."""
-    table = table_from([unit_values(kind.count, step) for step in range(kind.count)])
-    for vector in vectors:
-        table = put_behind(kind, table, mirror_table(kind, vector))
-    return table
 
 
 class VersorTest(unittest.TestCase):
@@ -135,7 +126,7 @@ class AlikeTest(unittest.TestCase):
     def test_the_same_table_just_where_alike(self):
         chance = chance_of("just where")
         told = {True: 0, False: 0}
-        for squares, kind in kinds(FULL):
+        for squares, kind in kinds(FULL_SQUARES):
             if not squares:
                 continue
             versors = [ONE, scaled(ONE, (-2, 3))]
