@@ -81,6 +81,11 @@ def are_lowest(pairs):
     return all([common_divisor(top, common_divisor(bottom, shared)) == 1 for top, bottom in pairs])
 
 
+def is_fraction(pair):
+    """Whether this is a fraction: a tuple (top, bottom) of whole numbers in lowest terms, bottom from 1 on."""
+    return is_pair(pair) and common_divisor(pair[0], pair[1]) == 1
+
+
 def lowest(top, parts):
     """The fraction that top divided by the product of all parts is, each part from 1 on."""
     return all_lowest([top], parts)[0]
@@ -113,6 +118,14 @@ def bottom_parts(fractions):
             parts.append(part)
             multiple *= part
     return parts
+
+
+def least_multiple(numbers):
+    """The least common multiple of whole numbers from 1 on."""
+    multiple = 1
+    for number in numbers:
+        multiple *= number // common_divisor(multiple, number)
+    return multiple
 
 
 def product_of(numbers):

@@ -176,3 +176,217 @@ def kinds(rows=None):
 def chance_of(word):
     """The same numbers for the same word, at each run."""
     return random.Random(word)
+
+
+def slow_board_times(one, other):
+    """The product of two boards of Python's fractions; noughts are passed over."""
+    columns = [list(column) for column in zip(*other)]
+    return [[sum((first * second for first, second in zip(row, column) if first and second), Fraction(0))
+             for column in columns] for row in one]
+
+
+def slow_unit(size):
+    return [unit_values(size, place) for place in range(size)]
+
+
+def slow_board_of(boards, one):
+    """The board of a sum, term by term."""
+    size = len(boards[0])
+    total = [[Fraction(0)] * size for _ in range(size)]
+    for product, fraction in one:
+        board = slow_unit(size)
+        for step in product:
+            board = slow_board_times(board, table_values(boards[step]))
+        total = [[old + Fraction(*fraction) * new for old, new in zip(row, line)] for row, line in zip(total, board)]
+    return table_from(total)
+
+
+def board_fractions(boards):
+    return [fraction for board in boards for row in board for fraction in row]
+
+
+def changed_by(boards, shears):
+    """Boards that multiply as these do: row i gets row j times by, column j loses column i times by, for each shear."""
+    found = []
+    for board in boards:
+        rows = table_values(board)
+        for i, j, by in shears:
+            rows[i] = [first + by * second for first, second in zip(rows[i], rows[j])]
+            for row in rows:
+                row[j] -= by * row[i]
+        found.append(table_from(rows))
+    return found
+
+
+def some_shears(chance, size, many, numbers):
+    return [(*chance.sample(range(size), 2), Fraction(*chance.choice(numbers))) for _ in range(many if size > 1 else 0)]
+
+
+def some_saying(chance, count, many, deepest, figures=2):
+    """A saying with at most so many tuples in it, of at most this depth."""
+    if many == 1 or deepest == 1:
+        if count and chance.random() < 0.6:
+            return ("step", chance.randrange(count))
+        return ("number", chance.choice([(0, 1), (1, 1), (-1, 1), some_fraction(chance, figures)]))
+    if many == 2 or chance.random() < 0.12:
+        return ("back", some_saying(chance, count, many - 1, deepest - 1, figures))
+    first = chance.randint(1, many - 2)
+    return (chance.choice(("plus", "times", "times")), some_saying(chance, count, first, deepest - 1, figures),
+            some_saying(chance, count, many - 1 - first, deepest - 1, figures))
+
+
+def slow_worth(squares, saying):
+    word, *inner = saying
+    if word == "number":
+        return slow_sum(squares, [((), inner[0])])
+    if word == "step":
+        return slow_sum(squares, [((inner[0],), (1, 1))])
+    worths = [slow_worth(squares, other) for other in inner]
+    if word == "plus":
+        return slow_plus(*worths)
+    if word == "times":
+        return slow_times(squares, *worths)
+    return slow_sum(squares, [(product[::-1], fraction) for product, fraction in worths[0]])
+
+
+def all_places(saying, place=()):
+    """All places in a saying with what stands there."""
+    found = [(place, saying)]
+    if saying[0] in ("plus", "times", "back"):
+        for number, inner in enumerate(saying[1:]):
+            found += all_places(inner, place + (number,))
+    return found
+
+
+def put_at(saying, place, made):
+    if not place:
+        return made
+    parts = list(saying)
+    parts[place[0] + 1] = put_at(parts[place[0] + 1], place[1:], made)
+    return tuple(parts)
+
+
+def row_saying(word, sayings):
+    """Sayings joined by a word, the last two first."""
+    found = sayings[-1]
+    for saying in sayings[-2::-1]:
+        found = (word, saying, found)
+    return found
+
+
+# Both sides of each rule, by the document's words: a, b, c are sayings, p, q numbers, i, j unlike steps.
+RULE_SIDES = {
+    "turn": (("plus", "a", "b"), ("plus", "b", "a")),
+    "move": (("plus", ("plus", "a", "b"), "c"), ("plus", "a", ("plus", "b", "c"))),
+    "join": (("times", ("times", "a", "b"), "c"), ("times", "a", ("times", "b", "c"))),
+    "left": (("times", "a", ("plus", "b", "c")), ("plus", ("times", "a", "b"), ("times", "a", "c"))),
+    "right": (("times", ("plus", "a", "b"), "c"), ("plus", ("times", "a", "c"), ("times", "b", "c"))),
+    "add": (("plus", "p", "q"), "p+q"),
+    "by": (("times", "p", "q"), "pq"),
+    "through": (("times", "a", "p"), ("times", "p", "a")),
+    "one": (("times", "1", "a"), "a"),
+    "none": (("plus", "0", "a"), "a"),
+    "nought": (("times", "0", "a"), "0"),
+    "square": (("times", "i", "i"), "ii"),
+    "swap": (("times", "i", "j"), ("times", "-1", ("times", "j", "i"))),
+    "over": (("back", ("plus", "a", "b")), ("plus", ("back", "a"), ("back", "b"))),
+    "about": (("back", ("times", "a", "b")), ("times", ("back", "b"), ("back", "a"))),
+    "still": (("back", "leaf"), "leaf"),
+}
+LOST_NAMES = {"add": "pq", "by": "pq", "nought": "a", "square": "i"}
+
+
+def number_saying(value):
+    return ("number", pair(value))
+
+
+def rule_made(squares, side, names):
+    """The saying that a side of a rule is for what stands for the names."""
+    if isinstance(side, tuple):
+        return (side[0], *(rule_made(squares, inner, names) for inner in side[1:]))
+    if side in ("0", "1", "-1"):
+        return number_saying(int(side))
+    if side == "p+q":
+        return number_saying(Fraction(*names["p"][1]) + Fraction(*names["q"][1]))
+    if side == "pq":
+        return number_saying(Fraction(*names["p"][1]) * Fraction(*names["q"][1]))
+    return number_saying(squares[names["i"][1]]) if side == "ii" else names[side]
+
+
+def rule_fits(side, saying, names):
+    """Whether a saying is a side of a rule; what stands for the names is put to them."""
+    if isinstance(side, tuple):
+        return (saying[0] == side[0] and len(saying) == len(side)
+                and all(rule_fits(inner, other, names) for inner, other in zip(side[1:], saying[1:])))
+    if side in ("0", "1", "-1"):
+        return saying == number_saying(int(side))
+    if side in "pq" and saying[0] != "number" or side in "ij" and saying[0] != "step":
+        return False
+    if side == "leaf" and saying[0] not in ("number", "step"):
+        return False
+    if side in names:
+        return names[side] == saying
+    if side in "ij" and saying in [names.get("i"), names.get("j")]:
+        return False
+    names[side] = saying
+    return True
+
+
+def is_right_more(squares, rule, more):
+    """Whether more has what the rule asks for, going back."""
+    if rule in ("add", "by"):
+        return len(more) == 2 and all(isinstance(one, tuple) and len(one) == 2 and isinstance(one[0], int)
+                                      and one[1] >= 1 and pair(Fraction(*one)) == one for one in more)
+    if len(more) != 1:
+        return False
+    if rule == "square":
+        return isinstance(more[0], int) and 0 <= more[0] < len(squares)
+    return isinstance(more[0], tuple) and isinstance(more[0][0], str) and all(
+        0 <= saying[1] < len(squares) if saying[0] == "step" else
+        saying[0] != "number" or is_right_more(squares, "add", saying[1:] * 2) for place, saying in all_places(more[0]))
+
+
+def slow_exchanged(squares, saying, rule, way, more):
+    """The saying that a rule makes of one, or None."""
+    if rule not in RULE_SIDES or way not in ("there", "back"):
+        return None
+    there, back = RULE_SIDES[rule]
+    names = {}
+    if way == "there":
+        return rule_made(squares, back, names) if more == () and rule_fits(there, saying, names) else None
+    if rule not in LOST_NAMES:
+        return rule_made(squares, there, names) if more == () and rule_fits(back, saying, names) else None
+    if not is_right_more(squares, rule, more):
+        return None
+    word = {"add": "number", "by": "number", "square": "step"}.get(rule)
+    names = {name: (word, one) if word else one for name, one in zip(LOST_NAMES[rule], more)}
+    return rule_made(squares, there, names) if rule_made(squares, back, names) == saying else None
+
+
+def slow_stepped(squares, saying, step):
+    """The saying that comes of one by a step, or None."""
+    place, rule, way, more = step
+    inner = dict(all_places(saying)).get(place)
+    made = None if inner is None else slow_exchanged(squares, inner, rule, way, more)
+    return None if made is None else put_at(saying, place, made)
+
+
+def slow_ends(squares, saying, paper):
+    for step in paper:
+        saying = slow_stepped(squares, saying, step)
+        assert saying is not None, step
+    return saying
+
+
+def fitting_saying(chance, squares, rule, way):
+    """A saying to which a rule fits, this or that way, and what it must be told."""
+    names = {name: some_saying(chance, len(squares), chance.randint(1, 5), 4) for name in "abc"}
+    names.update({name: ("number", some_fraction(chance, 2)) for name in "pq"})
+    steps = chance.sample(range(len(squares)), min(2, len(squares)))
+    names.update({name: ("step", step) for name, step in zip("ij", steps)})
+    names["leaf"] = chance.choice([names[name] for name in "pqij" if name in names])
+    if rule in ("square", "swap") and len(steps) < 2:
+        return None
+    lost = LOST_NAMES.get(rule, "") if way == "back" else ""
+    more = tuple(names[name] if name == "a" else names[name][1] for name in lost)
+    return rule_made(squares, RULE_SIDES[rule][way == "back"], names), more

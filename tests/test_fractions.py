@@ -6,7 +6,8 @@ from fractions import Fraction
 
 from helper import chance_of, pair, some_fraction
 from signsteps.fractions import (LONG_BITS, added, all_lowest, are_lowest, bottom_parts, common_divisor, content_of,
-                                 is_pair, is_whole, lowest, multiplied, product_of, turned_over)
+                                 is_fraction, is_pair, is_whole, least_multiple, lowest, multiplied, product_of,
+                                 turned_over)
 
 SMALL = [(top, bottom) for top in range(-12, 13) for bottom in range(1, 13) if math.gcd(top, bottom) == 1]
 
@@ -33,10 +34,12 @@ class FractionsTest(unittest.TestCase):
         for top in range(-12, 13):
             for bottom in range(-12, 13):
                 self.assertIs(is_pair((top, bottom)), bottom > 0)
+                self.assertIs(is_fraction((top, bottom)), bottom > 0 and math.gcd(top, bottom) == 1)
                 if bottom > 0:
                     self.assertIs(are_lowest([(1, 2), (top, bottom)]), math.gcd(top, bottom) == 1)
         for thing in ((), (1,), (1, 1, 1), 1, [1, 1], (True, 1), (1, True)):
             self.assertIs(is_pair(thing), False)
+            self.assertIs(is_fraction(thing), False)
 
     def test_added_and_multiplied(self):
         chance = chance_of("fractions")
@@ -112,6 +115,13 @@ class FractionsTest(unittest.TestCase):
         for fraction in SMALL:
             if fraction[0] != 0:
                 self.assertEqual(turned_over(fraction), pair(1 / Fraction(*fraction)))
+
+    def test_least_multiple(self):
+        chance = chance_of("multiple")
+        self.assertEqual(least_multiple([]), 1)
+        for _ in range(300):
+            numbers = [chance.randrange(1, 10 ** chance.randint(1, 30)) for _ in range(chance.randint(1, 5))]
+            self.assertEqual(least_multiple(numbers), math.lcm(*numbers))
 
     def test_bottom_parts(self):
         chance = chance_of("bottoms")

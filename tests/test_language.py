@@ -151,6 +151,11 @@ INTERFACE = {
     "owns": {"products_of": "kind", "own_table": "kind one", "sum_at": "kind rows", "beside_all": "kind",
              "halves": "kind", "folded": "kind one which"},
     "evens": {"even_kind": "kind", "into_even": "kind one", "out_of_even": "kind one"},
+    "boards": {"board_fault": "kind boards", "board_of": "kind boards one", "blind": "kind boards",
+               "sum_from": "kind boards board", "size_of": "kind", "boards_for": "kind"},
+    "crossings": {"crossed": "kind step", "fours": "kind steps", "cross": "kind step one",
+                  "cross_four": "kind steps one"},
+    "sayings": {"worth": "kind saying", "parts_of": "saying", "kept_saying": "one"},
 }
 
 
