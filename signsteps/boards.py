@@ -204,9 +204,9 @@ def letters_for(ones, less):
 
 
 def board_from_letters(letters):
-    """The board in which each letter's board has, at each place, the board of the next letters taken by the number."""
+    """The board in which the last letter's board has, at each place, that of the letters ahead taken by the number."""
     rows = [[1]]
-    for letter in letters[::-1]:
+    for letter in letters:
         rows = [[by * number for by in line for number in row] for line in LETTERS[letter] for row in rows]
     return [[(number, 1) for number in row] for row in rows]
 

@@ -177,12 +177,18 @@ class FaultTest(unittest.TestCase):
                              lambda wrong: sum_from(kind, wrong, table_from(slow_unit(size)))):
                     self.assertRaises(NoBoards, call, wrong)
 
+    def test_lists_of_other_things(self):
+        for wrong in ([1], [(1, 1)], [None], [[1]], [[(1, 1)]], [[None]], [[[1]]], [[[None]]], [[[[(1, 1)]]]]):
+            self.assertRaises(NoBoards, board_fault, Kind([1]), wrong)
+        for wrong in ([1], [(1, 1)], [None], [[1]], [[None]], [[[(1, 1)]]]):
+            self.assertRaises(NoBoards, sum_from, Kind([1]), [[[(1, 1)]]], wrong)
+
     def test_tuples_that_are_no_fractions(self):
         for wrong in ((2, 2), (0, 3), (1, 0), (-1, -1)):
             self.assertRaises(NoBoards, board_fault, Kind([1]), [[[wrong]]])
             self.assertRaises(NoBoards, sum_from, Kind([1]), [[[(1, 1)]]], [[wrong]])
         long = (3 ** 2000, 2 ** 4000)
-        self.assertRaises(NoBoards, board_fault, Kind([1]), [[[long, (0, 3)], [(1, 1), (1, 1)]]])
+        self.assertRaises(NoBoards, board_fault, Kind([1]), [[[long, (0, 5)], [(1, 1), (1, 1)]]])
         self.assertEqual(board_fault(Kind([1]), [[[long, (0, 1)], [(1, 1), (1, 1)]]]), ("square", 0))
 
 

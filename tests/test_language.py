@@ -8,6 +8,7 @@ import pathlib
 import re
 import unittest
 
+from signsteps.desk import Desk
 from signsteps.kinds import Kind
 
 PACKAGE = pathlib.Path(__file__).resolve().parent.parent / "signsteps"
@@ -156,6 +157,9 @@ INTERFACE = {
     "crossings": {"crossed": "kind step", "fours": "kind steps", "cross": "kind step one",
                   "cross_four": "kind steps one"},
     "sayings": {"worth": "kind saying", "parts_of": "saying", "kept_saying": "one"},
+    "papers": {"stepped": "kind saying step", "ends": "kind saying paper", "leads": "kind one paper other"},
+    "finder": {"to_kept": "kind saying", "between": "kind one other"},
+    "texts": {"sum_text": "one", "saying_text": "saying", "read_sum": "kind text", "read_saying": "text"},
 }
 
 
@@ -170,6 +174,10 @@ class InterfaceTest(unittest.TestCase):
     def test_kind(self):
         self.assertEqual(list(inspect.signature(Kind).parameters), ["squares"])
         self.assertEqual(set(vars(Kind([1, 0]))), {"count", "squares"})
+
+    def test_desk(self):
+        self.assertEqual(list(inspect.signature(Desk).parameters), [])
+        self.assertEqual(list(inspect.signature(vars(Desk)["tell"]).parameters), ["self", "line"])
 
 
 if __name__ == "__main__":
